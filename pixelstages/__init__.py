@@ -1,0 +1,1 @@
+"""Pixelstages: pictures through nets of stages, by tiles that are kept."""
