@@ -1,0 +1,31 @@
+"""The shape and the floor of a stage, whatever its kind, of those of what it is made of."""
+
+from pixelstages.colours import COLOUR_FLOORS, mixed_shape
+from pixelstages.filters import FILTER_FLOORS
+from pixelstages.geometry import GEOMETRY_FLOORS, curved_shape, source_shape
+
+
+def shape_of(stage, shape):
+    """The (planes, depth) of a stage; shape is that of what it is made of (of a source None)."""
+    kind = stage[0]
+    if kind == "source":
+        return source_shape(stage)
+    if kind == "curved":
+        return curved_shape(stage, shape)
+    if kind == "mixed":
+        return mixed_shape(stage, shape)
+    return shape
+
+
+def formula_of(kind):
+    if kind in GEOMETRY_FLOORS:
+        return GEOMETRY_FLOORS[kind]
+    if kind in COLOUR_FLOORS:
+        return COLOUR_FLOORS[kind]
+    return FILTER_FLOORS[kind]
+
+
+def floor_of(stage, shape, floors):
+    """The floor of a stage; shape is as in shape_of, floors the list of those of what it is made of."""
+    formula = formula_of(stage[0])
+    return formula(stage, shape, *floors)
