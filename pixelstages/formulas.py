@@ -3,10 +3,12 @@
 from pixelstages.colours import COLOUR_FLOORS, mixed_shape
 from pixelstages.filters import FILTER_FLOORS
 from pixelstages.geometry import GEOMETRY_FLOORS, curved_shape, source_shape
+from pixelstages.joins import JOIN_FLOORS, own_shape
+from pixelstages.means import MEAN_FLOORS
 
 
 def shape_of(stage, shape):
-    """The (planes, depth) of a stage; shape is that of what it is made of (of a source None)."""
+    """The (planes, depth) of a stage; shape is that of the first that it is made of (of a source None)."""
     kind = stage[0]
     if kind == "source":
         return source_shape(stage)
@@ -14,6 +16,8 @@ def shape_of(stage, shape):
         return curved_shape(stage, shape)
     if kind == "mixed":
         return mixed_shape(stage, shape)
+    if kind == "own":
+        return own_shape(shape)
     return shape
 
 
@@ -22,7 +26,11 @@ def formula_of(kind):
         return GEOMETRY_FLOORS[kind]
     if kind in COLOUR_FLOORS:
         return COLOUR_FLOORS[kind]
-    return FILTER_FLOORS[kind]
+    if kind in FILTER_FLOORS:
+        return FILTER_FLOORS[kind]
+    if kind in MEAN_FLOORS:
+        return MEAN_FLOORS[kind]
+    return JOIN_FLOORS[kind]
 
 
 def floor_of(stage, shape, floors):

@@ -1,10 +1,9 @@
 """Pictures: windows of whole numbers in planes."""
 
 from pixelstages.errors import NoPicture, NoWindow
-from pixelstages.kinds import MOST_SIDE, is_between, is_depth, is_edge, is_tuple
+from pixelstages.kinds import MOST_PLANES, MOST_SIDE, is_between, is_depth, is_edge, is_tuple
 
 DEPTH = 255
-MOST_PLANES = 4
 
 
 def are_planes(thing, depth):

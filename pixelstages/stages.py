@@ -3,8 +3,17 @@
 NEAR = "near"
 WRAPPED = "wrapped"
 MIRRORED = "mirrored"
-# How many names a stage has ahead of its other things, where it isn't one.
-NAMES_AHEAD = {"source": 0, "paired": 2, "met": 2, "chosen": 3}
+# Of each kind what its things are, in the maker's order: words for the tests in kinds.
+THINGS = {
+    "source": ("picture", "border"), "framed": ("name", "window", "border"), "moved": ("name", "move", "move"),
+    "flipped": ("name", "truth"), "turned": ("name",), "curved": ("name", "table", "new depth"),
+    "lifted": ("name", "steps"), "unlifted": ("name", "steps"), "mixed": ("name", "mixing", "by", "plus"),
+    "filtered": ("name", "filter", "by", "plus"), "ranked": ("name", "form", "rank"),
+    "reduced": ("name", "block", "block"), "enlarged": ("name", "block", "block"), "near_band": ("name", "truth"),
+    "far_band": ("name", "truth"), "paired": ("name", "name", "truth"), "summed": ("name", "window"),
+    "unsummed": ("name",), "levelled": ("name", "window"), "met": ("name", "name", "meeting"),
+    "chosen": ("name", "name", "name"), "own": ("name", "def"),
+}
 
 
 def source(picture, *, border=NEAR):
@@ -97,4 +106,4 @@ def own(of, tell):
 
 def made_of(stage):
     """The list of the names of the stages that a stage is made of."""
-    return list(stage[1:1 + NAMES_AHEAD.get(stage[0], 1)])
+    return [thing for word, thing in zip(THINGS[stage[0]], stage[1:]) if word == "name"]

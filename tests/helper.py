@@ -36,6 +36,16 @@ def upon(*stages):
     return shape, floors[0]
 
 
+def joined(stage, *below):
+    """The shape and the floor of a stage made of several, each of these told as (shape, floor)."""
+    return shape_of(stage, below[0][0]), floor_of(stage, below[0][0], [floor for _, floor in below])
+
+
+def spoilt(things, at, thing):
+    """The tuple with another thing at a place."""
+    return things[:at] + (thing,) + things[at + 1:]
+
+
 def seen(case, window, *stages):
     """The planes that the last stage tells in the window, as those of a picture; the stages as ahead."""
     left, up, wide, high = window
