@@ -1,7 +1,7 @@
-"""What is a stage by itself alone, whatever it is made of."""
+"""What is a stage by itself alone, and whether it fits what it is made of."""
 
 from pixelstages.errors import NoDivisor, NoStage
-from pixelstages.kinds import TESTS
+from pixelstages.kinds import TESTS, is_whole
 from pixelstages.pictures import Picture
 from pixelstages.stages import THINGS
 
@@ -47,3 +47,31 @@ def check_stage(thing):
         raise NoStage("no stage by itself alone")
     if is_by_nought(thing):
         raise NoDivisor("a by of 0")
+
+
+def is_within_depth(border, depth):
+    return not is_whole(border) or border <= depth
+
+
+def table_fits(stage, depth):
+    table, new_depth = stage[2:]
+    return len(table) == depth + 1 and (new_depth is not None or max(table) <= depth)
+
+
+def fits(stage, shapes):
+    """Whether the lengths and numbers of a stage fit the shapes of what it is made of, told in their order."""
+    kind = stage[0]
+    if kind == "source":
+        return is_within_depth(stage[2], stage[1].depth)
+    if kind in ("paired", "met", "chosen"):
+        return shapes[0] == shapes[1]
+    planes, depth = shapes[0]
+    if kind == "framed":
+        return is_within_depth(stage[3], depth)
+    if kind == "curved":
+        return table_fits(stage, depth)
+    if kind in ("lifted", "unlifted"):
+        return len(stage[2][0][1]) == planes
+    if kind == "mixed":
+        return len(stage[2][0]) == planes
+    return True

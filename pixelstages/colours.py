@@ -28,7 +28,7 @@ def stepped(numbers, step, sign, depth):
 
 def stepped_floor(of, steps, sign, depth):
     def tell(x, y):
-        numbers = of(x, y)
+        numbers = of[x, y]
         for step in steps:
             numbers = stepped(numbers, step, sign, depth)
         return numbers
@@ -47,14 +47,18 @@ def mixed_shape(stage, shape):
     return (len(stage[2]), shape[1])
 
 
+def reads_own_cell(rows):
+    """Whether some weight isn't 0: a cell whose weights are all 0 isn't read, so nothing there can be refused."""
+    return any([weight != 0 for row in rows for weight in row])
+
+
 def mixed_floor(stage, shape, of):
     rows, by, plus = stage[2:]
     planes, depth = shape
-    # A cell whose weights are all 0 isn't read, so nothing there can be refused.
-    is_read = any([weight != 0 for row in rows for weight in row])
+    is_read = reads_own_cell(rows)
 
     def tell(x, y):
-        numbers = of(x, y) if is_read else (0,) * planes
+        numbers = of[x, y] if is_read else (0,) * planes
         return tuple([rounded(summed_up(row, numbers), by, plus, depth) for row in rows])
     return tell
 

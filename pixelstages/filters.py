@@ -3,7 +3,7 @@
 Floors are made as told in geometry.
 """
 
-from pixelstages.colours import rounded
+from pixelstages.colours import rounded, summed_up
 
 
 def weighed_places(weights):
@@ -18,12 +18,13 @@ def filtered_floor(stage, shape, of):
     weights, by, plus = stage[2:]
     planes, depth = shape
     places = weighed_places(weights)
+    if not places:
+        return lambda x, y: (rounded(0, by, plus, depth),) * planes
+    kept_weights = [weight for dx, dy, weight in places]
 
     def tell(x, y):
-        totals = [0] * planes
-        for dx, dy, weight in places:
-            totals = [total + weight * number for total, number in zip(totals, of(x + dx, y + dy))]
-        return tuple([rounded(total, by, plus, depth) for total in totals])
+        cells = [of[x + dx, y + dy] for dx, dy, weight in places]
+        return tuple([rounded(summed_up(kept_weights, numbers), by, plus, depth) for numbers in zip(*cells)])
     return tell
 
 
@@ -31,7 +32,7 @@ def ranked_floor(stage, shape, of):
     form, rank = stage[2:]
 
     def tell(x, y):
-        cells = [of(x + dx, y + dy) for dx, dy in form]
+        cells = [of[x + dx, y + dy] for dx, dy in form]
         return tuple([sorted(numbers)[rank] for numbers in zip(*cells)])
     return tell
 

@@ -5,6 +5,8 @@ from pixelstages.filters import FILTER_FLOORS
 from pixelstages.geometry import GEOMETRY_FLOORS, curved_shape, source_shape
 from pixelstages.joins import JOIN_FLOORS, own_shape
 from pixelstages.means import MEAN_FLOORS
+from pixelstages.pictures import Picture
+from pixelstages.sums import SUM_FLOORS
 
 
 def shape_of(stage, shape):
@@ -30,10 +32,21 @@ def formula_of(kind):
         return FILTER_FLOORS[kind]
     if kind in MEAN_FLOORS:
         return MEAN_FLOORS[kind]
+    if kind in SUM_FLOORS:
+        return SUM_FLOORS[kind]
     return JOIN_FLOORS[kind]
 
 
-def floor_of(stage, shape, floors):
-    """The floor of a stage; shape is as in shape_of, floors the list of those of what it is made of."""
+def floor_of(stage, shape, below):
+    """The floor of a stage; shape is as in shape_of, below the list of the dicts of what it is made of."""
     formula = formula_of(stage[0])
-    return formula(stage, shape, *floors)
+    return formula(stage, shape, *below)
+
+
+def picture_of(numbers, shape, window):
+    """The picture of a window's numbers, told by a dict by cells."""
+    left, up, wide, high = window
+    planes, depth = shape
+    rows = [[numbers[x, y] for x in range(left, left + wide)] for y in range(up, up + high)]
+    told = tuple([tuple([tuple([number[plane] for number in row]) for row in rows]) for plane in range(planes)])
+    return Picture(told, left=left, up=up, depth=depth)

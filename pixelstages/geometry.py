@@ -1,8 +1,8 @@
 """Borders, sources, frames, moves, flips, turns and tables.
 
 A floor is a function that tells of x and y the tuple of the numbers there, plane by plane. The floor of a stage
-comes of the stage, the shape (planes, depth) of what it is made of, and the floor of this; a source is made of
-nothing, so its shape and floor come of it alone.
+comes of the stage, the shape (planes, depth) of what it is made of, and the dict of such tuples of this by cells,
+which has the cells that are read; a source is made of nothing, so its shape and floor come of it alone.
 """
 
 from pixelstages.kinds import is_whole
@@ -24,6 +24,12 @@ def is_within(window, x, y):
     return left <= x < left + wide and up <= y < up + high
 
 
+def cells_of(window):
+    """The list of the window's cells, rising, y first."""
+    left, up, wide, high = window
+    return [(x, y) for y in range(up, up + high) for x in range(left, left + wide)]
+
+
 def comes_to(window, border, x, y):
     """The window's cell to which a cell of the floor comes; None where a whole number stands."""
     if is_within(window, x, y):
@@ -35,12 +41,12 @@ def comes_to(window, border, x, y):
 
 
 def bordered(of, window, border, planes):
-    """The floor that tells within the window what of tells, and beyond it what the border makes of this."""
+    """The floor that tells within the window what of has, and beyond it what the border makes of this."""
     def tell(x, y):
         cell = comes_to(window, border, x, y)
         if cell is None:
             return (border,) * planes
-        return of(cell[0], cell[1])
+        return of[cell]
     return tell
 
 
@@ -49,13 +55,15 @@ def source_shape(stage):
     return (len(picture.planes), picture.depth)
 
 
+def numbers_by_cells(picture):
+    """The dict of the numbers of each cell of a picture, plane by plane."""
+    flat = [[number for row in plane for number in row] for plane in picture.planes]
+    return dict(zip(cells_of(picture.window()), list(zip(*flat))))
+
+
 def source_floor(stage, shape):
     picture, border = stage[1:]
-
-    def within(x, y):
-        row, column = y - picture.up, x - picture.left
-        return tuple([plane[row][column] for plane in picture.planes])
-    return bordered(within, picture.window(), border, len(picture.planes))
+    return bordered(numbers_by_cells(picture), picture.window(), border, len(picture.planes))
 
 
 def framed_floor(stage, shape, of):
@@ -65,17 +73,17 @@ def framed_floor(stage, shape, of):
 
 def moved_floor(stage, shape, of):
     right, down = stage[2:]
-    return lambda x, y: of(x - right, y - down)
+    return lambda x, y: of[x - right, y - down]
 
 
 def flipped_floor(stage, shape, of):
     if stage[2]:
-        return lambda x, y: of(-x, y)
-    return lambda x, y: of(x, -y)
+        return lambda x, y: of[-x, y]
+    return lambda x, y: of[x, -y]
 
 
 def turned_floor(stage, shape, of):
-    return lambda x, y: of(y, x)
+    return lambda x, y: of[y, x]
 
 
 def curved_shape(stage, shape):
@@ -85,7 +93,7 @@ def curved_shape(stage, shape):
 
 def curved_floor(stage, shape, of):
     table = stage[2]
-    return lambda x, y: tuple([table[number] for number in of(x, y)])
+    return lambda x, y: tuple([table[number] for number in of[x, y]])
 
 
 GEOMETRY_FLOORS = {

@@ -30,15 +30,11 @@ MEETING_RULES = {"least": least, "greatest": greatest, "sum": held_sum, "gap": g
 def met_floor(stage, shape, of, other):
     rule = MEETING_RULES[stage[3]]
     depth = shape[1]
-    return lambda x, y: tuple([rule(number, against, depth) for number, against in zip(of(x, y), other(x, y))])
+    return lambda x, y: tuple([rule(number, against, depth) for number, against in zip(of[x, y], other[x, y])])
 
 
 def chosen_floor(stage, shape, of, other, mask):
-    def tell(x, y):
-        # All three are read, whichever is told.
-        numbers, others, choice = of(x, y), other(x, y), mask(x, y)
-        return numbers if choice[0] > 0 else others
-    return tell
+    return lambda x, y: of[x, y] if mask[x, y][0] > 0 else other[x, y]
 
 
 def own_shape(shape):
@@ -49,7 +45,7 @@ def own_floor(stage, shape, of):
     own_tell, depth = stage[2], shape[1]
 
     def tell(x, y):
-        number = own_tell(of(x, y))
+        number = own_tell(of[x, y])
         if not is_between(number, 0, depth):
             raise NoTone((x, y))
         return (number,)

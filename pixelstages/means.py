@@ -9,14 +9,14 @@ def reduced_floor(stage, shape, of):
     many = wide * high
 
     def tell(x, y):
-        cells = [of(x * wide + i, y * high + j) for j in range(high) for i in range(wide)]
+        cells = [of[x * wide + i, y * high + j] for j in range(high) for i in range(wide)]
         return tuple([(2 * sum(numbers) + many) // (2 * many) for numbers in zip(*cells)])
     return tell
 
 
 def enlarged_floor(stage, shape, of):
     wide, high = stage[2:]
-    return lambda x, y: of(x // wide, y // high)
+    return lambda x, y: of[x // wide, y // high]
 
 
 def pair_cells(across, x, y):
@@ -32,8 +32,7 @@ def banded_floor(stage, shape, of, tell_pair):
 
     def tell(x, y):
         one, other = pair_cells(across, x, y)
-        firsts, seconds = of(one[0], one[1]), of(other[0], other[1])
-        return tuple([tell_pair(a, b, tones) for a, b in zip(firsts, seconds)])
+        return tuple([tell_pair(a, b, tones) for a, b in zip(of[one], of[other])])
     return tell
 
 
@@ -74,8 +73,7 @@ def paired_floor(stage, shape, near, far):
     def tell(x, y):
         cell, is_first = banded_cell(across, x, y)
         tell_one = first_of if is_first else second_of
-        nears, fars = near(cell[0], cell[1]), far(cell[0], cell[1])
-        return tuple([tell_one(n, f, tones) for n, f in zip(nears, fars)])
+        return tuple([tell_one(n, f, tones) for n, f in zip(near[cell], far[cell])])
     return tell
 
 

@@ -4,7 +4,7 @@ import itertools
 import random
 import unittest
 
-from helper import rest, seen, some_planes, upon
+from helper import Asked, rest, seen, some_planes, upon
 from pixelstages.colours import mixed_floor
 from pixelstages.pictures import Picture
 from pixelstages.stages import lifted, mixed, source, unlifted
@@ -164,9 +164,9 @@ class Mixed(unittest.TestCase):
         def of(x, y):
             asked.append((x, y))
             return (5, 6)
-        self.assertEqual(mixed_floor(mixed("a", ((0, 0), (0, 0)), plus=4), (2, 9), of)(1, 2), (4, 4))
+        self.assertEqual(mixed_floor(mixed("a", ((0, 0), (0, 0)), plus=4), (2, 9), Asked(of))(1, 2), (4, 4))
         self.assertEqual(asked, [])
-        self.assertEqual(mixed_floor(mixed("a", ((0, 0), (0, 1)), plus=2), (2, 9), of)(1, 2), (2, 8))
+        self.assertEqual(mixed_floor(mixed("a", ((0, 0), (0, 1)), plus=2), (2, 9), Asked(of))(1, 2), (2, 8))
         self.assertEqual(asked, [(1, 2)])
 
     def test_by_the_words_of_the_promise(self):

@@ -4,7 +4,7 @@ import itertools
 import random
 import unittest
 
-from helper import seen, some_planes, upon
+from helper import Asked, seen, some_planes, upon
 from pixelstages.filters import filtered_floor
 from pixelstages.pictures import Picture
 from pixelstages.stages import MIRRORED, filtered, ranked, source
@@ -73,7 +73,7 @@ class Filtered(unittest.TestCase):
         def of(x, y):
             asked.append((x, y))
             return (1, 2)
-        floor = filtered_floor(filtered("a", ((0, 3, 0), (0, 0, 1))), (2, 255), of)
+        floor = filtered_floor(filtered("a", ((0, 3, 0), (0, 0, 1))), (2, 255), Asked(of))
         self.assertEqual(floor(10, 20), (4, 8))
         self.assertEqual(sorted(asked), [(10, 19), (11, 20)])
 

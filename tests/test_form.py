@@ -155,6 +155,15 @@ class Form(unittest.TestCase):
                 if isinstance(sign, (ast.Is, ast.IsNot)):
                     self.assertIsInstance(other, ast.Constant, self.told(path, node))
 
+    def test_what_is_iterated_at_once_is_not_stored(self):
+        at_once = {"zip", "enumerate", "reversed", "range"}
+        for path, node in nodes((ast.Assign, ast.AugAssign, ast.Return, ast.IfExp, ast.Starred)):
+            for child in ast.iter_child_nodes(node):
+                if isinstance(child, ast.Call) and isinstance(child.func, ast.Name):
+                    self.assertNotIn(child.func.id, at_once, self.told(path, child))
+        for path, node in nodes(ast.Starred):
+            self.assertIsInstance(node.value, (ast.Name, ast.Attribute), self.told(path, node))
+
     def test_tables_are_only_read(self):
         tables = {node.targets[0].id for tree in TREES.values() for node in tree.body
                   if isinstance(node, ast.Assign) and isinstance(node.value, (ast.List, ast.Dict))}

@@ -92,19 +92,6 @@ class Chosen(unittest.TestCase):
                 wanted = one[1](x, y) if mask[1](x, y)[0] > 0 else other[1](x, y)
                 self.assertEqual(floor(x, y), wanted)
 
-    def test_each_of_the_three_is_read(self):
-        for number in (0, 1):
-            asked = []
-
-            def floor_by(letter, number):
-                def of(x, y):
-                    asked.append((letter, x, y))
-                    return (number,)
-                return ((1, 255), of)
-            floor = joined(chosen("a", "b", "c"), floor_by("a", 5), floor_by("b", 6), floor_by("c", number))[1]
-            self.assertEqual(floor(3, -4), (5,) if number else (6,))
-            self.assertEqual(sorted(asked), [("a", 3, -4), ("b", 3, -4), ("c", 3, -4)])
-
 
 class Own(unittest.TestCase):
     def test_what_a_def_is_told(self):
