@@ -116,9 +116,10 @@ def are_steps(thing):
 
 def are_rows(thing, most):
     """Whether it is a tuple of one to most rows of weights, each of one to most, alike many."""
-    if not is_tuple(thing, 1, most):
+    if not (is_tuple(thing, 1, most) and all([are_weights(row, most, GREATEST_WEIGHT) for row in thing])):
         return False
-    return all([are_weights(row, most, GREATEST_WEIGHT) and len(row) == len(thing[0]) for row in thing])
+    # Only of tuples a length may be asked, so behind the look at all of them.
+    return all([len(row) == len(thing[0]) for row in thing])
 
 
 def is_mixing(thing):

@@ -66,6 +66,16 @@ def spoilt(things, at, thing):
     return things[:at] + (thing,) + things[at + 1:]
 
 
+def parts_spoilt(thing, wrong):
+    """The thing with each of its parts, in whichever tuple of tuples, exchanged for each wrong thing, one at a time."""
+    for at, part in enumerate(thing):
+        for one in wrong:
+            yield spoilt(thing, at, one)
+        if isinstance(part, tuple):
+            for other in parts_spoilt(part, wrong):
+                yield spoilt(thing, at, other)
+
+
 def seen(case, window, *stages):
     """The planes that the last stage tells in the window, as those of a picture; the stages as ahead."""
     left, up, wide, high = window

@@ -3,7 +3,7 @@
 import itertools
 import unittest
 
-from helper import OTHER_KINDS, keeps, refuses, spoilt
+from helper import OTHER_KINDS, keeps, parts_spoilt, refuses, spoilt
 from pixelstages import stages
 from pixelstages.checks import check_stage
 from pixelstages.errors import NoDivisor, NoStage
@@ -147,6 +147,29 @@ class Wrong(unittest.TestCase):
                         if not (kind == "source" and at == 1 and isinstance(thing, Picture)):
                             self.fails(spoilt(right_stage(kind), at, thing))
         self.fails(("own", None, max))
+
+    def test_each_part_spoilt_is_a_refusal_of_its_own_or_none(self):
+        """No length and no part of a thing is asked ahead of its kind: nothing but NoStage comes out."""
+        rows = ((1, 2), (3, 4), (5, 6))
+        for stage in (
+                ("framed", "a", (0, 0, 1, 1), "near"), ("curved", "a", (0, 1, 2), 2), ("mixed", "a", rows, 1, 0),
+                ("filtered", "a", rows, 1, 0), ("filtered", "a", ((1,),), 1, 0), ("ranked", "a", ALL_PLACES[:3], 1),
+                ("lifted", "a", (STEP, STEP, STEP)), ("unlifted", "a", (STEP, (1, (3, 0), 8))),
+                ("summed", "a", (0, 0, 1, 1)), ("levelled", "a", (0, 0, 1, 1)), ("met", "a", "b", "gap")):
+            for once in parts_spoilt(stage, OTHER_KINDS):
+                self.refused_or_right(once)
+        for stage in (("mixed", "a", rows, 1, 0), ("filtered", "a", rows, 1, 0), ("lifted", "a", (STEP, STEP))):
+            for once in parts_spoilt(stage[2], (None, True, (), [0, 0])):
+                for twice in parts_spoilt(once, (None, True, (0, 0), {})):
+                    self.refused_or_right(spoilt(stage, 2, twice))
+
+    def refused_or_right(self, stage):
+        """Some are right though a part was exchanged, as a name for a name."""
+        try:
+            keeps(self, check_stage, stage)
+        except NoStage:
+            return
+        self.assertTrue(all([isinstance(row, tuple) for row in stage[2]]) or stage[0] not in ("mixed", "filtered"), stage)
 
     def test_truths_for_numbers(self):
         for kind in ("moved", "reduced", "enlarged"):

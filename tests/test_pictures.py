@@ -3,7 +3,7 @@
 import unittest
 from unittest import mock
 
-from helper import OTHER_KINDS, keeps, refuses
+from helper import OTHER_KINDS, keeps, parts_spoilt, refuses
 from pixelstages.errors import NoPicture, NoWindow
 from pixelstages.pictures import DEPTH, Picture
 
@@ -118,6 +118,11 @@ class NoPictures(unittest.TestCase):
         refuses(self, NoPicture, Picture, (((0, 0), (0,)),))
         refuses(self, NoPicture, Picture, (((0,), (0, 0)),))
         refuses(self, NoPicture, Picture, (((0,),), ((0, 0),)))
+
+    def test_each_part_spoilt(self):
+        """No length is asked of what is no tuple, wherever it stands among right ones."""
+        for planes in parts_spoilt((((0, 1), (2, 3)), ((4, 5), (6, 7)), ((8, 9), (1, 1))), OTHER_KINDS):
+            refuses(self, NoPicture, Picture, planes)
 
     def test_left_and_up(self):
         for thing in (-1001, 1001, 10 ** 20, *OTHER_KINDS):
