@@ -23,6 +23,11 @@ def lowest_first(stages, names):
     return list(done)
 
 
+def names_above(stages, name):
+    """The name and those of all that are made of its stage, through others too."""
+    return [one for one in stages if name in lowest_first(stages, [one])]
+
+
 def is_ring(stages, name, stage):
     """Whether a stage, put by this name, would be made of itself."""
     waiting, done = made_of(stage), {}

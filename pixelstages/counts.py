@@ -6,7 +6,7 @@ from pixelstages.errors import NoDivisor, NoPlace, NoStage, NoTone, TooWide
 from pixelstages.filters import weighed_places
 from pixelstages.kinds import FARTHEST_PLACE, is_depth, is_place
 from pixelstages.pictures import DEPTH, Picture
-from pixelstages.weighings import layered_sums, numbers_for
+from pixelstages.weighings import layered_sums, numbers_for, width_of
 
 WIDEST = 3000
 
@@ -18,7 +18,7 @@ def check_counted(stage, depth):
         raise NoDivisor("a by of 0")
     if not is_depth(depth):
         raise NoTone()
-    if stage[0] == "filtered" and depth * sum([abs(weight) for row in stage[2] for weight in row]) > WIDEST:
+    if stage[0] == "filtered" and width_of([weight for row in stage[2] for weight in row], depth) > WIDEST:
         raise TooWide("depth times the sum of the weights without signs is above 3000")
 
 

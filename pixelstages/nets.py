@@ -60,12 +60,22 @@ class Net:
         self.check_there(name)
         return self.stages[name]
 
-    def whole(self, name, window):
+    def check_asked(self, name, window):
         self.check_there(name)
         if not is_window(window):
             raise NoWindow("a window is a tuple (left, up, wide, high) within its bounds")
+
+    def whole(self, name, window):
+        self.check_asked(name, window)
         numbers = told_numbers(self.stages, self.shapes, name, cells_of(window))
         return picture_of(numbers, self.shapes[name], window)
+
+    def twin(self):
+        """A net like this one, which goes its own ways from now on."""
+        net = Net()
+        net.stages = self.stages
+        net.shapes = self.shapes
+        return net
 
     def __len__(self):
         return len(self.stages)

@@ -4,9 +4,10 @@ from pixelstages.chains import needed_cells
 from pixelstages.errors import NoPlace, NoSource, NoWindow
 from pixelstages.geometry import cells_of, comes_to, is_within
 from pixelstages.kinds import is_between, is_cell, is_window
+from pixelstages.marks import either
 from pixelstages.readers import cells_read, reader_of
 from pixelstages.stages import made_of
-from pixelstages.sums import corner_sums
+from pixelstages.sums import from_corner
 
 
 def reads(net, name, cell, *, which=0):
@@ -27,9 +28,9 @@ def changed_of_source(stage, changed, cells):
 
 def changed_of_summed(stage, changed, cells):
     window = stage[2]
-    marks = {cell: (1,) if cell in changed else (0,) for cell in cells_read(stage, cells)}
-    many = corner_sums(window, 1, marks)
-    return {(x, y): True for x, y in cells if is_within(window, x, y) and many(x, y)[0] > 0}
+    marks = {cell: cell in changed for cell in cells_read(stage, cells)}
+    is_changed = from_corner(window, marks, False, either)
+    return {(x, y): True for x, y in cells if is_within(window, x, y) and is_changed(x, y)}
 
 
 def changed_of_levelled(stage, changed, cells):

@@ -10,31 +10,31 @@ def added(numbers, others):
     return tuple([number + other for number, other in zip(numbers, others)])
 
 
-def corner_sums(window, planes, of):
-    """A function that tells of a cell of the window the sums of the numbers in of, a dict, from the corner to it.
+def from_corner(window, of, nothing, join):
+    """A function that tells of a cell of the window all that of, a dict, has from the corner to it, joined to nothing.
 
-    Only those are looked at that a sum which is asked for has, each once.
+    Only those are looked at that an asking needs, each once.
     """
     left, up = window[:2]
     rows, columns = {}, {}
 
     def along(x, y):
-        sums = rows.setdefault(y, [(0,) * planes])
-        while len(sums) <= x - left + 1:
-            sums.append(added(sums[-1], of[left + len(sums) - 1, y]))
-        return sums[x - left + 1]
+        joined = rows.setdefault(y, [nothing])
+        while len(joined) <= x - left + 1:
+            joined.append(join(joined[-1], of[left + len(joined) - 1, y]))
+        return joined[x - left + 1]
 
     def tell(x, y):
-        sums = columns.setdefault(x, [(0,) * planes])
-        while len(sums) <= y - up + 1:
-            sums.append(added(sums[-1], along(x, up + len(sums) - 1)))
-        return sums[y - up + 1]
+        joined = columns.setdefault(x, [nothing])
+        while len(joined) <= y - up + 1:
+            joined.append(join(joined[-1], along(x, up + len(joined) - 1)))
+        return joined[y - up + 1]
     return tell
 
 
 def summed_floor(stage, shape, of):
     window, (planes, depth) = stage[2], shape
-    sums = corner_sums(window, planes, of)
+    sums = from_corner(window, of, (0,) * planes, added)
 
     def tell(x, y):
         if not is_within(window, x, y):

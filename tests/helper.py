@@ -163,7 +163,9 @@ class Words:
         for at, of in enumerate(below):
             planes, depth = self.shape(of)
             alone.stages[at] = makers.source(Picture((((0,),),) * planes, depth=depth))
-        alone.stages["top"] = (stage[0], *range(len(below)), *stage[1 + len(below):])
+        # An own def reads its own cell whatever it tells, and might refuse noughts.
+        things = (max,) if stage[0] == "own" else stage[1 + len(below):]
+        alone.stages["top"] = (stage[0], *range(len(below)), *things)
         for p in range(alone.shape("top")[0]):
             alone.number("top", cell[0], cell[1], p)
         return sorted({(x, y) for of, x, y in alone.asked if of == which}, key=lambda one: one[::-1])
