@@ -26,21 +26,17 @@ def stepped(numbers, step, sign, depth):
     return numbers[:plane] + (number,) + numbers[plane + 1:]
 
 
-def stepped_floor(of, steps, sign, depth):
-    def tell(x, y):
-        numbers = of[x, y]
-        for step in steps:
-            numbers = stepped(numbers, step, sign, depth)
-        return numbers
-    return tell
+def lifted_numbers(stage, numbers, depth):
+    """The numbers of a cell behind a stage lifted or unlifted."""
+    is_lifted = stage[0] == "lifted"
+    for step in stage[2] if is_lifted else stage[2][::-1]:
+        numbers = stepped(numbers, step, 1 if is_lifted else -1, depth)
+    return numbers
 
 
 def lifted_floor(stage, shape, of):
-    return stepped_floor(of, stage[2], 1, shape[1])
-
-
-def unlifted_floor(stage, shape, of):
-    return stepped_floor(of, stage[2][::-1], -1, shape[1])
+    depth = shape[1]
+    return lambda x, y: lifted_numbers(stage, of[x, y], depth)
 
 
 def mixed_shape(stage, shape):
@@ -63,4 +59,4 @@ def mixed_floor(stage, shape, of):
     return tell
 
 
-COLOUR_FLOORS = {"lifted": lifted_floor, "unlifted": unlifted_floor, "mixed": mixed_floor}
+COLOUR_FLOORS = {"lifted": lifted_floor, "unlifted": lifted_floor, "mixed": mixed_floor}

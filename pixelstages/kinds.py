@@ -87,7 +87,10 @@ def is_move(thing):
 
 
 def is_table(thing):
-    return is_tuple(thing, 2, DEEPEST + 1) and all([is_tone(number) for number in thing])
+    if not is_tuple(thing, 2, DEEPEST + 1):
+        return False
+    # is_tone written out, as tables are long and looked at often.
+    return all([isinstance(tone, int) and not isinstance(tone, bool) and 0 <= tone <= DEEPEST for tone in thing])
 
 
 def is_new_depth(thing):

@@ -82,3 +82,20 @@ class Net:
 
     def __eq__(self, other):
         return isinstance(other, Net) and list(self.stages.items()) == list(other.stages.items())
+
+
+def net_by(stages):
+    """The net of stages by names, a dict, in this order, which some may be made of later ones; refused as put is."""
+    if len(stages) > MOST_STAGES:
+        raise TooMany("a net has at most 24 stages")
+    for name in stages:
+        for of in made_of(stages[name]):
+            if of not in stages:
+                raise Missing(of)
+    for name in stages:
+        if is_ring(stages, name, stages[name]):
+            raise Ring("a stage that would be made of itself")
+    net = Net()
+    net.stages = {name: stages[name] for name in stages}
+    net.shapes = shapes_of(stages)
+    return net

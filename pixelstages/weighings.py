@@ -16,8 +16,6 @@ def totals_along(sums, weight, depth):
 
 def widened(sums, weight, depth):
     """Of each sum that is one of the sums and some times the weight, at most depth times: how many times at least."""
-    if weight == 0:
-        return {total: 0 for total in sums}
     told = {}
     # Along the weight's sign, so that the sum one weight nearer is told already.
     for total in totals_along(sums, weight, depth):

@@ -155,6 +155,24 @@ class Form(unittest.TestCase):
                 if isinstance(sign, (ast.Is, ast.IsNot)):
                     self.assertIsInstance(other, ast.Constant, self.told(path, node))
 
+    def is_simple(self, node):
+        if isinstance(node, (ast.List, ast.Tuple)):
+            return all([self.is_simple(one) for one in node.elts])
+        return isinstance(node, (ast.Name, ast.Attribute, ast.Constant))
+
+    def test_what_is_done_finally(self):
+        for path, node in nodes(ast.Try):
+            for row in node.finalbody:
+                if isinstance(row, ast.Expr):
+                    self.assertEqual(row.value.func.attr, "append", self.told(path, row))
+                    self.assertTrue(all([self.is_simple(one) for one in row.value.args]), self.told(path, row))
+                else:
+                    self.assertIsInstance(row, ast.Assign, self.told(path, row))
+                    self.assertTrue(self.is_simple(row.value), self.told(path, row))
+            for handler in node.handlers:
+                named = ast.unparse(handler.type).strip("()").split(", ")
+                self.assertEqual([name for name in named if name in BUILT_IN], [], self.told(path, handler))
+
     def test_what_is_iterated_at_once_is_not_stored(self):
         at_once = {"zip", "enumerate", "reversed", "range"}
         for path, node in nodes((ast.Assign, ast.AugAssign, ast.Return, ast.IfExp, ast.Starred)):
